@@ -1,0 +1,1 @@
+"""Neverbelow: curves that stay above nought, reckoned with whole numbers alone."""

@@ -1,0 +1,28 @@
+import importlib
+import inspect
+import unittest
+
+WANTED = {
+    "neverbelow.numbers": (
+        "number(top, bottom)", "plus(one, other)", "minus(one, other)", "times(one, other)", "over(one, other)",
+        "less(one, other)", "sign(one)",
+    ),
+    "neverbelow.curves": (
+        "curve_of(numbers)", "worth(curve, x)", "added(one, other)", "taken(one, other)", "multiplied(one, other)",
+        "scaled(curve, k)", "slope(curve)", "moved(curve, c)", "stretched(curve, k)", "divided(curve, by)",
+    ),
+}
+
+
+class InterfaceTest(unittest.TestCase):
+    def test_names_and_arguments(self):
+        for module, forms in WANTED.items():
+            for form in forms:
+                with self.subTest(form):
+                    name = form.partition("(")[0]
+                    own = getattr(importlib.import_module(module), name)
+                    self.assertEqual(name + str(inspect.signature(own)), form)
+
+
+if __name__ == "__main__":
+    unittest.main()
