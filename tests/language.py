@@ -1,7 +1,9 @@
 """Looks through the package's files for what LANGUAGE.md rules out; tells (rule, line, words).
 
-Looked at are the rules that a tree of the code shows by itself. L9, L11, L13, L18, L26, L28 and
-the parts of L15, L19 and L22 that hang on what a value is are left to the reader.
+Looked at is what a tree of the code shows easily. Not looked at, and left to the reader, are L9,
+L11, L13, L18, L26 and L28; what is kept or changed through lists and dicts (L15, L23); where an
+error may be taken (L19); what is handed to `isinstance` and `key=` (L22); sets in longer
+expressions (L24); escapes and long numbers (L27); the names of Python's frames (L17).
 """
 
 import ast
