@@ -11,6 +11,15 @@ WANTED = {
         "curve_of(numbers)", "worth(curve, x)", "added(one, other)", "taken(one, other)", "multiplied(one, other)",
         "scaled(curve, k)", "slope(curve)", "moved(curve, c)", "stretched(curve, k)", "divided(curve, by)",
     ),
+    "neverbelow.common": ("common(one, other)", "plain(curve)", "split(curve)"),
+    "neverbelow.mixes": (
+        "mixed(curve, low, high, degree)", "unmixed(numbers, low, high)", "worth_at(numbers, t)", "cut(numbers, t)",
+        "raised(numbers)", "sign_of(numbers)",
+    ),
+    "neverbelow.maps": (
+        "map_of(curve, low, high)", "holds(curve, low, high, rows)", "narrowed(curve, start, end)",
+        "near_to(curve, start, end, width)",
+    ),
 }
 
 
