@@ -26,15 +26,14 @@ def full_mix_tops(tops, start, end):
 
 
 def holds_one_place(mix, steep, start, end):
-    # Just one change of sign means just one place between start and end; a place at an end is another one.
-    if sign_changes(mix) != 1 or mix[0] == 0 or mix[-1] == 0:
-        return False
-    return one_sign(full_mix_tops(steep, start, end)) != 0
+    # One change of sign means one place between start and end. Were there another one at an end, the
+    # slope would be nought between the two, and its mixing numbers would not have one sign.
+    return sign_changes(mix) == 1 and one_sign(full_mix_tops(steep, start, end)) != 0
 
 
 def places_of(part, low, high):
-    # part is a plain part. Each number asked for by itself stands on the pile between its neighbours,
-    # so that the places come in order.
+    # The pile holds what is still to be asked, the lowest on top, so that the places come in order;
+    # a number by itself stands there with start and end alike.
     tops = tops_of(part)
     steep = tops_of(slope(part))
     found = []
