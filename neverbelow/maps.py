@@ -92,12 +92,16 @@ def place_row(part, start, end):
     return (PLACE, start, end, full_mix(slope(part), start, end))
 
 
+def check_asked(curve, low, high):
+    if len(curve) - 1 > MOST_DEGREE:
+        raise TooGreat("a curve that is looked at on a stretch has a degree of at most six")
+    check_stretch(low, high)
+
+
 def map_of(curve, low, high):
     if len(curve) == 0:
         raise NoCurve("the curve that is nought has no map")
-    if len(curve) - 1 > MOST_DEGREE:
-        raise TooGreat("a curve with a map has a degree of at most six")
-    check_stretch(low, high)
+    check_asked(curve, low, high)
     part = plain(curve)
     rows = []
     done = low
@@ -176,9 +180,13 @@ def narrowed(curve, start, end):
     return nearer(tops_of(plain(curve)), start, end)
 
 
-def near_to(curve, start, end, width):
+def check_near(width):
     if sign(width) <= 0:
-        raise NoNear("a width is above nought")
+        raise NoNear("a nearness is above nought")
+
+
+def near_to(curve, start, end, width):
+    check_near(width)
     tops = tops_of(plain(curve))
     found = (start, end)
     while less(width, minus(found[1], found[0])):

@@ -3,6 +3,8 @@
 from fractions import Fraction
 from math import comb, gcd
 
+from neverbelow.common import plain
+from neverbelow.curves import slope
 from neverbelow.errors import BelowError
 
 
@@ -137,3 +139,133 @@ def count_of_places(curve, low, high):
     while chain[-1]:
         chain.append([-one for one in rest_by_fractions(chain[-2], chain[-1])])
     return ends + changes_at(chain, frac(low)) - changes_at(chain, frac(high))
+
+
+def clear(start, end, *numbers):
+    """A clear row of a map, written by hand."""
+    return ("clear", num(start), num(end), nums(*numbers))
+
+
+def place(start, end, *numbers):
+    """A place row of a map, written by hand."""
+    return ("place", num(start), num(end), nums(*numbers))
+
+
+def sign_of_fraction(one):
+    return (one > 0) - (one < 0)
+
+
+def check_one_sign(test, numbers):
+    test.assertEqual(len({sign_of_fraction(frac(one)) for one in numbers} - {0}), 1)
+
+
+def check_row(test, curve, row):
+    test.assertIs(type(row), tuple)
+    word, start, end, numbers = row
+    check_number(test, start)
+    check_number(test, end)
+    at_start, at_end = worth_by_powers(curve, start), worth_by_powers(curve, end)
+    if word == "clear":
+        test.assertLess(frac(start), frac(end))
+        check_numbers(test, numbers, len(curve))
+        test.assertTrue(is_mix(numbers, curve, start, end, len(curve) - 1))
+        check_one_sign(test, numbers)
+        return
+    test.assertEqual(word, "place")
+    if start == end:
+        test.assertEqual(numbers, [])
+        test.assertEqual(at_start, 0)
+        return
+    test.assertLess(frac(start), frac(end))
+    test.assertNotEqual(at_start, 0)
+    test.assertNotEqual(at_end, 0)
+    part = plain(curve)
+    signs = [sign_of_fraction(worth_by_powers(part, one)) for one in (start, end)]
+    test.assertEqual(sorted(signs), [-1, 1])
+    check_numbers(test, numbers, len(part) - 1)
+    test.assertTrue(is_mix(numbers, slope(part), start, end, len(part) - 2))
+    check_one_sign(test, numbers)
+    test.assertEqual(count_of_places(curve, start, end), 1)
+
+
+def check_ends(test, curve, rows):
+    points = [row[1] for row in rows if row[0] == "place" and row[1] == row[2]]
+    test.assertEqual(len(points), len(set(points)))
+    for row in rows:
+        for end in row[1:3]:
+            if row[0] == "clear" and worth_by_powers(curve, end) == 0:
+                test.assertIn(end, points)
+
+
+def check_map(test, curve, low, high, rows):
+    """Looks through point 14 sentence by sentence, and counts the places by another way."""
+    test.assertIs(type(rows), list)
+    test.assertGreater(len(rows), 0)
+    test.assertEqual(rows[0][1], low)
+    test.assertEqual(rows[-1][2], high)
+    for row, behind in zip(rows, rows[1:]):
+        test.assertEqual(row[2], behind[1])
+    for row in rows:
+        check_row(test, curve, row)
+    check_ends(test, curve, rows)
+    places = [row for row in rows if row[0] == "place"]
+    test.assertEqual(len(places), count_of_places(curve, low, high))
+
+
+def check_verdict(test, curve, low, high, told):
+    """Looks through point 17; as no two of its words are true at once, the one that stands is the right one."""
+    test.assertIs(type(told), tuple)
+    test.assertEqual(len(told), 2)
+    word, shows = told
+    if word == "below":
+        check_number(test, shows)
+        test.assertTrue(frac(low) <= frac(shows) <= frac(high))
+        test.assertLess(worth_by_powers(curve, shows), 0)
+        return
+    test.assertIn(word, ("above", "touches"))
+    if curve == ():
+        test.assertEqual(told, ("touches", []))
+        return
+    check_map(test, curve, low, high, shows)
+    test.assertEqual(word == "touches", any(row[0] == "place" for row in shows))
+    for row in shows:
+        for end in row[1:3]:
+            test.assertGreaterEqual(worth_by_powers(curve, end), 0)
+        if row[0] == "clear":
+            test.assertGreaterEqual(min(frac(one) for one in row[3]), 0)
+
+
+def shortest(fractions):
+    found = list(fractions)
+    while found and found[-1] == 0:
+        found.pop()
+    return cur(*found)
+
+
+def less_number(curve, off):
+    """The curve less a fraction."""
+    first = frac(curve[0]) if curve else Fraction(0)
+    return shortest([first - off] + [frac(one) for one in curve[1:]])
+
+
+def sum_of_squares(some):
+    """The curve that is the sum of weight times other times other, reckoned with Python's own fractions."""
+    found = [Fraction(0)] * 25
+    for weight, other in some:
+        for place, one in enumerate(other):
+            for step, again in enumerate(other):
+                found[place + step] += frac(weight) * frac(one) * frac(again)
+    return shortest(found)
+
+
+def check_squares(test, curve, some):
+    """Looks through point 20: squares of this curve."""
+    test.assertIs(type(some), list)
+    for one in some:
+        test.assertIs(type(one), tuple)
+        test.assertEqual(len(one), 2)
+        check_number(test, one[0])
+        test.assertGreater(one[0][0], 0)
+        check_curve(test, one[1])
+        test.assertNotEqual(one[1], ())
+    test.assertEqual(sum_of_squares(some), curve)

@@ -1,21 +1,13 @@
 import unittest
 from fractions import Fraction
 
-from helpers import at_roots, cur, num, nums, refused, with_numbers_times
+from helpers import at_roots, clear, cur, num, place, refused, with_numbers_times
 from neverbelow.errors import NoStretch
 from neverbelow.maps import holds
 
 HALF = Fraction(1, 2)
 ROOT_TWO = cur(-2, 0, 1)
 TOUCH_AT_ONE = cur(1, -2, 1)
-
-
-def clear(start, end, *numbers):
-    return ("clear", num(start), num(end), nums(*numbers))
-
-
-def place(start, end, *numbers):
-    return ("place", num(start), num(end), nums(*numbers))
 
 
 def root_two_rows():

@@ -20,6 +20,9 @@ WANTED = {
         "map_of(curve, low, high)", "holds(curve, low, high, rows)", "narrowed(curve, start, end)",
         "near_to(curve, start, end, width)",
     ),
+    "neverbelow.verdicts": ("verdict(curve, low, high)", "shown(curve, low, high, told)"),
+    "neverbelow.squares": ("squares(curve)", "are_squares(curve, some)", "always(curve)", "bound(curve)"),
+    "neverbelow.extremes": ("least(curve, low, high, near)", "greatest(curve, low, high, near)"),
 }
 
 

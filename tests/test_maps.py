@@ -2,10 +2,7 @@ import unittest
 from fractions import Fraction
 from random import Random
 
-from helpers import at_roots, check_number, check_numbers, count_of_places, cur, frac, is_mix, num, powers
-from helpers import product, refused, with_numbers_times, worth_by_powers
-from neverbelow.curves import slope
-from neverbelow.common import plain
+from helpers import at_roots, check_map, cur, frac, num, powers, product, refused, with_numbers_times
 from neverbelow.errors import NoCurve, NoStretch, TooGreat
 from neverbelow.maps import holds, map_of
 
@@ -22,66 +19,12 @@ STRETCHES = (
 NO_STRETCHES = ((num(1), num(1)), (num(1), num(0)), (num(-1, 3), num(-1, 2)))
 
 
-def sign_of_fraction(one):
-    return (one > 0) - (one < 0)
-
-
 class MapTest(unittest.TestCase):
-    def check_row(self, curve, row):
-        word, start, end, numbers = row
-        check_number(self, start)
-        check_number(self, end)
-        low, high = frac(start), frac(end)
-        at_start, at_end = worth_by_powers(curve, start), worth_by_powers(curve, end)
-        if word == "clear":
-            self.assertLess(low, high)
-            check_numbers(self, numbers, len(curve))
-            self.assertTrue(is_mix(numbers, curve, start, end, len(curve) - 1))
-            self.check_one_sign(numbers)
-            return
-        self.assertEqual(word, "place")
-        if start == end:
-            self.assertEqual(numbers, [])
-            self.assertEqual(at_start, 0)
-            return
-        self.assertLess(low, high)
-        self.assertNotEqual(at_start, 0)
-        self.assertNotEqual(at_end, 0)
-        part = plain(curve)
-        signs = [sign_of_fraction(worth_by_powers(part, one)) for one in (start, end)]
-        self.assertEqual(sorted(signs), [-1, 1])
-        check_numbers(self, numbers, len(part) - 1)
-        self.assertTrue(is_mix(numbers, slope(part), start, end, len(part) - 2))
-        self.check_one_sign(numbers)
-        self.assertEqual(count_of_places(curve, start, end), 1)
-
-    def check_one_sign(self, numbers):
-        signs = {sign_of_fraction(frac(one)) for one in numbers} - {0}
-        self.assertEqual(len(signs), 1)
-
-    def check_ends(self, curve, rows):
-        points = [row[1] for row in rows if row[0] == "place" and row[1] == row[2]]
-        self.assertEqual(len(points), len(set(points)))
-        for row in rows:
-            for end in row[1:3]:
-                if row[0] == "clear" and worth_by_powers(curve, end) == 0:
-                    self.assertIn(end, points)
-
     def check(self, curve, low, high, roots=()):
-        """Looks through point 14 sentence by sentence; roots are places that are known to be nought."""
+        """Roots are places that are known to be nought."""
         rows = map_of(curve, low, high)
-        self.assertIs(type(rows), list)
-        self.assertGreater(len(rows), 0)
-        self.assertEqual(rows[0][1], low)
-        self.assertEqual(rows[-1][2], high)
-        for row, behind in zip(rows, rows[1:]):
-            self.assertEqual(row[2], behind[1])
-        for row in rows:
-            self.assertIs(type(row), tuple)
-            self.check_row(curve, row)
-        self.check_ends(curve, rows)
+        check_map(self, curve, low, high, rows)
         places = [row for row in rows if row[0] == "place"]
-        self.assertEqual(len(places), count_of_places(curve, low, high))
         for root in roots:
             holding = [row for row in places if frac(row[1]) <= root <= frac(row[2])]
             self.assertEqual(len(holding), 1 if frac(low) <= root <= frac(high) else 0)

@@ -1,15 +1,42 @@
-"""Point 2 for what is handed in and told by common, mixes and maps."""
+"""Point 2 for what is handed in and told by the modules behind curves."""
 
 import copy
 import unittest
 
 from helpers import at_roots, cur, num, nums
 from neverbelow.common import common, plain, split
+from neverbelow.extremes import greatest, least
 from neverbelow.maps import holds, map_of, narrowed, near_to
 from neverbelow.mixes import cut, mixed, raised, sign_of, unmixed, worth_at
+from neverbelow.squares import always, are_squares, bound, squares
+from neverbelow.verdicts import shown, verdict
 
 TOUCHES = at_roots(0, 1, 1)
 ROOT_TWO = cur(-2, 0, 1)
+TWICE_ROOT_TWO = cur(4, 0, -4, 0, 1)
+QUARTIC = cur(5, 1, 0, 2, 1)
+
+
+def asked_of_verdicts():
+    low, high = num(-2), num(3)
+    curves = ((), cur(1), TOUCHES, ROOT_TWO, TWICE_ROOT_TWO, QUARTIC)
+    return tuple((verdict, (curve, low, high)) for curve in curves) + tuple(
+        (shown, (curve, low, high, verdict(curve, low, high))) for curve in curves
+    ) + ((shown, (QUARTIC, low, high, ("above", []))), (shown, (ROOT_TWO, low, high, ("below", num(2)))))
+
+
+def asked_of_squares():
+    curves = ((), cur(7), at_roots(1, 1), TWICE_ROOT_TWO, QUARTIC)
+    return tuple((squares, (curve,)) for curve in curves) + tuple(
+        (are_squares, (curve, squares(curve))) for curve in curves
+    ) + tuple((always, (curve,)) for curve in curves + (ROOT_TWO,)) + (
+        (are_squares, (ROOT_TWO, [(num(1), cur(0, 1)), (num(-1), cur(1))])), (bound, (QUARTIC,)), (bound, (cur(7),)),
+    )
+
+
+def asked_of_extremes():
+    curves = ((), cur(7), TOUCHES, TWICE_ROOT_TWO, QUARTIC)
+    return tuple((own, (curve, num(-2), num(3), num(1, 9))) for own in (least, greatest) for curve in curves)
 
 
 def asked():
@@ -26,7 +53,7 @@ def asked():
         (holds, (ROOT_TWO, num(-2), num(3), map_of(ROOT_TWO, num(-2), num(3)))),
         (holds, (ROOT_TWO, num(-2), num(3), [])),
         (narrowed, (ROOT_TWO, num(1), num(2))), (near_to, (ROOT_TWO, num(1), num(2), num(1, 100))),
-    )
+    ) + asked_of_verdicts() + asked_of_squares() + asked_of_extremes()
 
 
 def lists_within(told):
@@ -88,6 +115,16 @@ class OwnTest(unittest.TestCase):
         self.assertEqual(sign_of(numbers), 1)
         numbers[0] = num(-1)
         self.assertEqual(sign_of(numbers), 0)
+
+    def test_verdicts_and_squares_are_taken_as_they_are_then(self):
+        told = verdict(QUARTIC, num(-2), num(3))
+        self.assertIs(shown(QUARTIC, num(-2), num(3), told), True)
+        told[1][0][3][0] = num(99)
+        self.assertIs(shown(QUARTIC, num(-2), num(3), told), False)
+        some = squares(QUARTIC)
+        self.assertIs(are_squares(QUARTIC, some), True)
+        some.pop()
+        self.assertIs(are_squares(QUARTIC, some), False)
 
 
 if __name__ == "__main__":
