@@ -269,3 +269,24 @@ def check_squares(test, curve, some):
         check_curve(test, one[1])
         test.assertNotEqual(one[1], ())
     test.assertEqual(sum_of_squares(some), curve)
+
+
+def piece(low, high, curve):
+    """A piece of a row, written by hand."""
+    return (num(low), num(high), curve)
+
+
+def pieces_at(marks, curves):
+    return [piece(low, high, curve) for low, high, curve in zip(marks, marks[1:], curves)]
+
+
+def steps(count):
+    """Pieces of one length with a number each, so that each worth tells its piece."""
+    return pieces_at(range(count + 1), [cur(place + 10) for place in range(count)])
+
+
+def sum_of(one, other):
+    """The sum of two curves, reckoned with Python's own fractions."""
+    size = max(len(one), len(other))
+    longer = [list(curve) + [(0, 1)] * (size - len(curve)) for curve in (one, other)]
+    return shortest([frac(first) + frac(second) for first, second in zip(*longer)])

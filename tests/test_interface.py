@@ -23,6 +23,14 @@ WANTED = {
     "neverbelow.verdicts": ("verdict(curve, low, high)", "shown(curve, low, high, told)"),
     "neverbelow.squares": ("squares(curve)", "are_squares(curve, some)", "always(curve)", "bound(curve)"),
     "neverbelow.extremes": ("least(curve, low, high, near)", "greatest(curve, low, high, near)"),
+    "neverbelow.crossings": ("meetings(one, other, low, high)", "sides(one, other, low, high)"),
+    "neverbelow.pieces": (
+        "row_of(pieces)", "row_worth(row, x)", "smoothness(row)", "is_joined(row)", "row_verdict(row)",
+        "row_least(row, near)", "rows_added(one, other)", "rows_multiplied(one, other)", "row_moved(row, c)",
+        "row_stretched(row, k)", "plainest(row)",
+    ),
+    "neverbelow.texts": ("show_number(one)", "show_curve(curve)", "read_number(text)", "read_curve(text)"),
+    "neverbelow.desk": ("Desk()",),
 }
 
 
@@ -34,6 +42,11 @@ class InterfaceTest(unittest.TestCase):
                     name = form.partition("(")[0]
                     own = getattr(importlib.import_module(module), name)
                     self.assertEqual(name + str(inspect.signature(own)), form)
+
+    def test_the_desks_own(self):
+        desk = importlib.import_module("neverbelow.desk").Desk
+        self.assertIs(type(desk), type)
+        self.assertEqual(str(inspect.signature(desk().say)), "(row)")
 
 
 if __name__ == "__main__":
